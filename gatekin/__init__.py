@@ -1,0 +1,1 @@
+"""Gatekin: gates, what can be made of them, and what they keep."""

@@ -1,0 +1,190 @@
+"""The part of Python that the package's files keep to, as far as a walk through them can see it."""
+
+import ast
+import builtins
+import re
+import unittest
+from pathlib import Path
+
+PACKAGE = Path(__file__).resolve().parent.parent / "gatekin"
+FILES = sorted(PACKAGE.rglob("*.py"))
+BUILT_IN = set(dir(builtins))
+
+ERRORS = set("""Exception ValueError TypeError KeyError IndexError LookupError ZeroDivisionError ArithmeticError
+    OverflowError RuntimeError NotImplementedError AttributeError StopIteration""".split())
+OWN_OF_PYTHON = ERRORS | set("""len range enumerate zip min max sum abs sorted reversed int str bool list tuple dict set
+    frozenset isinstance ord repr any all divmod""".split())
+METHODS = set("""append clear copy count endswith extend find get index insert isalnum isalpha isdigit islower isspace
+    isupper items join keys ljust lower lstrip partition pop remove replace reverse rfind rjust rpartition rsplit rstrip
+    setdefault split splitlines startswith strip update upper values zfill bit_length""".split())
+NODES = set("""Module ImportFrom alias FunctionDef arguments arg ClassDef Lambda Assign AugAssign If While For
+    Return Break Continue Pass Raise Try ExceptHandler Expr BoolOp And Or BinOp Add Sub Mult FloorDiv Mod Pow BitAnd
+    BitOr BitXor LShift RShift UnaryOp Not USub UAdd Invert IfExp Compare Eq NotEq Lt LtE Gt GtE Is IsNot In NotIn Call
+    keyword Constant JoinedStr FormattedValue Attribute Subscript Slice Name Load Store List Tuple Dict ListComp
+    comprehension""".split())
+NOWHERE = set("register mro elements open input version_info with_traceback add_note".split())
+WORDS = """type typing typing_extensions enum Enum IntEnum StrEnum Flag IntFlag Generic Protocol ABC ABCMeta namedtuple
+    NamedTuple TypedDict TYPE_CHECKING abstractmethod""".split()
+SPECIAL = set("__init__ __eq__ __repr__ __str__ __len__".split())
+
+
+def bound_names(tree):
+    """The names that parameters, locals, defs and classes are given."""
+    for node in ast.walk(tree):
+        if isinstance(node, ast.arg):
+            yield node.arg
+        elif isinstance(node, ast.Name) and isinstance(node.ctx, ast.Store):
+            yield node.id
+        elif isinstance(node, (ast.FunctionDef, ast.ClassDef)):
+            yield node.name
+
+
+def top_names(tree):
+    told = []
+    for node in tree.body:
+        if isinstance(node, (ast.FunctionDef, ast.ClassDef)):
+            told.append(node.name)
+        elif isinstance(node, ast.Assign):
+            told += [target.id for target in node.targets]
+        elif isinstance(node, ast.ImportFrom):
+            told += [alias.name for alias in node.names]
+    return told
+
+
+def drawn_from(tree):
+    return [node.module for node in tree.body if isinstance(node, ast.ImportFrom)]
+
+
+def inner_names(tree):
+    """The parameters and locals of all defs."""
+    for node in ast.walk(tree):
+        if isinstance(node, (ast.FunctionDef, ast.Lambda)):
+            yield from [name for part in ast.iter_child_nodes(node) for name in bound_names(part)]
+
+
+class Form(unittest.TestCase):
+    def each(self, check):
+        for file in FILES:
+            text = file.read_text(encoding="utf-8")
+            with self.subTest(file=file.name):
+                check(text, ast.parse(text))
+
+    def test_files(self):
+        others = [file for file in PACKAGE.rglob("*") if "__pycache__" not in file.parts and file not in FILES]
+        self.assertEqual(others, [])
+        self.assertIn(PACKAGE / "__init__.py", FILES)
+        for file in FILES:
+            self.assertRegex(file.name, r"^([a-z][a-z0-9_]*|__init__|__main__)\.py$")
+            self.assertNotIn(file.stem, BUILT_IN)
+            self.assertNotIn(file.stem, WORDS + "test tests testing site conftest".split())
+
+    def test_signs_and_sizes(self):
+        def check(text, tree):
+            self.assertRegex(text, r"\A[\n -~]*\Z")
+            self.assertLessEqual(len(text.splitlines()), 400)
+            self.assertLessEqual(max(len(line) for line in text.splitlines()), 120)
+            for node in ast.walk(tree):
+                if isinstance(node, ast.FunctionDef):
+                    self.assertLessEqual(node.end_lineno - node.lineno + 1, 40, node.name)
+
+        self.each(check)
+
+    def test_words(self):
+        def check(text, tree):
+            self.assertEqual([word for word in WORDS if re.search(rf"\b{word}\b", text)], [])
+            self.assertNotRegex(text, "dataclass|overload|contextmanager")
+
+        self.each(check)
+
+    def test_imports(self):
+        homes = {"gatekin." + file.stem: top_names(ast.parse(file.read_text())) for file in FILES}
+
+        def check(text, tree):
+            for node in ast.walk(tree):
+                if isinstance(node, ast.ImportFrom):
+                    self.assertEqual(node.level, 0)
+                    self.assertIn(node, tree.body)
+                    for alias in node.names:
+                        self.assertIn(alias.name, homes[node.module])
+                        self.assertIsNone(alias.asname)
+
+        self.each(check)
+
+    def test_no_two_files_draw_from_one_another(self):
+        draws = {"gatekin." + file.stem: drawn_from(ast.parse(file.read_text())) for file in FILES}
+        while draws:
+            free = [name for name in draws if not set(draws[name]) & set(draws)]
+            self.assertTrue(free, draws)
+            draws = {name: draws[name] for name in draws if name not in free}
+
+    def test_statements_and_expressions(self):
+        def check(text, tree):
+            used = {type(node).__name__ for node in ast.walk(tree)}
+            self.assertEqual(sorted(used - NODES), [])
+            for node in ast.walk(tree):
+                if isinstance(node, ast.Assign):
+                    self.assertEqual(len(node.targets), 1)
+                    self.assertNotIsInstance(node.targets[0], (ast.Tuple, ast.List))
+                elif isinstance(node, (ast.For, ast.While)):
+                    self.assertEqual(node.orelse, [])
+                elif isinstance(node, ast.ListComp):
+                    self.assertEqual(len(node.generators), 1)
+                    self.assertLessEqual(len(node.generators[0].ifs), 1)
+                elif isinstance(node, ast.BinOp) and isinstance(node.op, ast.Pow):
+                    self.assertIn(getattr(node.right, "value", None), range(65))
+                elif isinstance(node, ast.Constant):
+                    self.assertIsInstance(node.value, (int, str, type(None)))
+                elif isinstance(node, ast.Expr) and node is not tree.body[0]:
+                    self.assertIsInstance(node.value, ast.Call)
+
+        self.each(check)
+
+    def test_functions_and_classes(self):
+        def check(text, tree):
+            for node in ast.walk(tree):
+                if isinstance(node, ast.FunctionDef):
+                    given = node.args
+                    self.assertEqual((node.decorator_list, node.returns), ([], None))
+                    self.assertEqual((given.vararg, given.kwarg, given.kwonlyargs, given.posonlyargs), (None, None, [], []))
+                elif isinstance(node, ast.ClassDef):
+                    self.assertIn(node, tree.body)
+                    self.assertEqual((node.decorator_list, node.keywords), ([], []))
+                    self.assertLessEqual(len(node.bases), 1)
+                    for part in node.body:
+                        self.assertIsInstance(part, (ast.FunctionDef, ast.Pass))
+
+        self.each(check)
+
+    def test_names(self):
+        def check(text, tree):
+            self.assertEqual(len(top_names(tree)), len(set(top_names(tree))))
+            outer = [name for node in tree.body if isinstance(node, (ast.ClassDef, ast.ImportFrom))
+                     for name in top_names(ast.Module([node], []))]
+            self.assertEqual(set(outer) & set(inner_names(tree)), set())
+            for name in bound_names(tree):
+                self.assertTrue(name in SPECIAL or re.match(r"[A-Za-z][A-Za-z0-9_]*$", name), name)
+                self.assertNotIn(name, NOWHERE)
+            self.assertEqual(BUILT_IN & set(top_names(tree) + list(inner_names(tree))), set())
+            known = set(bound_names(tree)) | set(top_names(tree)) | OWN_OF_PYTHON
+            for node in ast.walk(tree):
+                if isinstance(node, ast.Name):
+                    self.assertIn(node.id, known)
+                elif isinstance(node, ast.Attribute):
+                    self.assertNotIn(node.attr, NOWHERE)
+
+        self.each(check)
+
+    def test_methods_of_pythons_own(self):
+        trees = [ast.parse(file.read_text()) for file in FILES]
+        own = {node.name for tree in trees for node in ast.walk(tree) if isinstance(node, ast.FunctionDef)}
+
+        def check(text, tree):
+            for node in ast.walk(tree):
+                if isinstance(node, ast.Call) and isinstance(node.func, ast.Attribute):
+                    self.assertIn(node.func.attr, METHODS | own)
+
+        self.each(check)
+
+
+if __name__ == "__main__":
+    unittest.main()

@@ -1,0 +1,41 @@
+import importlib
+import inspect
+import unittest
+
+ARGUMENTS = {
+    "gates": {
+        "is_gate": ["thing"],
+        "value": ["gate", "values"],
+        "input_table": ["inputs", "j"],
+        "put": ["gate", "tables", "inputs"],
+        "turned": ["gate"],
+        "with_set": ["gate", "j", "w"],
+        "in_order": ["gate", "order"],
+        "matters": ["gate"],
+    },
+    "circuits": {
+        "is_circuit": ["thing"],
+        "wires": ["circuit"],
+        "gate_of": ["circuit"],
+    },
+    "errors": {
+        "NotAll": ["kind"],
+        "NoName": ["name"],
+    },
+}
+
+
+class Interface(unittest.TestCase):
+    def test_names_and_arguments(self):
+        for file, names in ARGUMENTS.items():
+            module = importlib.import_module("gatekin." + file)
+            for name, arguments in names.items():
+                with self.subTest(file=file, name=name):
+                    told = inspect.signature(getattr(module, name)).parameters
+                    self.assertEqual(list(told), arguments)
+                    for parameter in told.values():
+                        self.assertIs(parameter.default, inspect.Parameter.empty)
+
+
+if __name__ == "__main__":
+    unittest.main()
