@@ -62,3 +62,86 @@ def long_circuit(inputs, count):
         ends = tuple([there - 1, s * s % max(there, 1), there // 2, there - 1 - s % max(there, 1)][:size])
         steps.append(((size, bits), ends))
     return (inputs, tuple(steps), inputs + count - 1)
+
+
+def drawn_gate(draw, most=4):
+    inputs = draw.randrange(most + 1)
+    return (inputs, draw.randrange(limit(inputs)))
+
+
+def drawn_circuit(draw, inputs, count, gates=None, near=None):
+    """Steps of drawn gates; with near, a step draws on that many wires just ahead alone."""
+    steps = []
+    for there in range(inputs, inputs + count):
+        gate = draw.choice(gates) if gates else drawn_gate(draw)
+        gate = gate if there > 0 else (0, gate[1] % 2)
+        low = max(0, there - near) if near else 0
+        steps.append((gate, tuple(draw.randrange(low, there) for end in range(gate[0]))))
+    return (inputs, tuple(steps), draw.randrange(inputs + count))
+
+
+def circuit_gate(circuit):
+    told = [values[circuit[2]] for values in circuit_rows(circuit)]
+    return (circuit[0], number(told))
+
+
+def tree_gate(tree, inputs):
+    """Row by row, without the tables; for trees that are not deep."""
+    def at(part, values):
+        if isinstance(part, int):
+            return values[part]
+        return gate_value(part[0], [at(inner, values) for inner in part[1]])
+
+    return (inputs, sum(at(tree, [row // 2 ** j % 2 for j in range(inputs)]) * 2 ** row for row in range(2 ** inputs)))
+
+
+def columns_of(row, width):
+    return [row // 2 ** column % 2 for column in range(width)]
+
+
+def row_put(gate, rows, width):
+    return number([gate_value(gate, list(column)) for column in zip(*[columns_of(row, width) for row in rows])]
+                  if rows else [gate[1]] * width)
+
+
+def first_broken(gate, relation):
+    width, rows = relation
+    for chosen in product(rows, repeat=gate[0]):
+        if row_put(gate, chosen, width) not in rows:
+            return list(chosen)
+    return None
+
+
+def least_closed(relation, gates):
+    """The rows are gone through again and again, until none is new; None where there are too many."""
+    width, rows = relation
+    rows = set(rows)
+    while True:
+        if len(rows) > 128 or sum(len(rows) ** gate[0] for gate in gates) > 20000:
+            return None
+        given = {row_put(gate, chosen, width) for gate in gates for chosen in product(sorted(rows), repeat=gate[0])}
+        if given <= rows:
+            return (width, tuple(sorted(rows)))
+        rows |= given
+
+
+def formula_relation(formula):
+    width, parts, columns = formula
+    met = [{tuple(columns_of(row, relation[0])) for row in relation[1]} for relation, picks in parts]
+    told = set()
+    for values in product((0, 1), repeat=width):
+        if all(tuple(values[pick] for pick in picks) in rows for (relation, picks), rows in zip(parts, met)):
+            told.add(number([values[column] for column in columns]))
+    return (len(columns), tuple(sorted(told)))
+
+
+def drawn_relation(draw, width, count):
+    count = min(count, 2 ** width)
+    return (width, tuple(sorted(draw.sample(range(2 ** width), count))))
+
+
+def kinds_within(thing):
+    """What kinds of things a thing is made of."""
+    if type(thing) in (tuple, list):
+        return {type(thing)}.union(*[kinds_within(part) for part in thing])
+    return {type(thing)}

@@ -26,6 +26,20 @@ NOWHERE = set("register mro elements open input version_info with_traceback add_
 WORDS = """type typing typing_extensions enum Enum IntEnum StrEnum Flag IntFlag Generic Protocol ABC ABCMeta namedtuple
     NamedTuple TypedDict TYPE_CHECKING abstractmethod""".split()
 SPECIAL = set("__init__ __eq__ __repr__ __str__ __len__".split())
+WALKED = set("zip enumerate reversed range".split())
+WALKED_METHODS = set("items keys values".split())
+WALKERS = set("list tuple dict sorted sum any all enumerate zip min max".split())
+KEYWORDS = {"sorted": {"key", "reverse"}, "min": {"key", "default"}, "max": {"key", "default"}, "sum": {"start"},
+            "enumerate": {"start"}, "zip": {"strict"}}
+
+
+def called(node):
+    """The plain name that is called, or None."""
+    return node.func.id if isinstance(node, ast.Call) and isinstance(node.func, ast.Name) else None
+
+
+def parents(tree):
+    return {part: node for node in ast.walk(tree) for part in ast.iter_child_nodes(node)}
 
 
 def bound_names(tree):
@@ -182,6 +196,56 @@ class Form(unittest.TestCase):
             for node in ast.walk(tree):
                 if isinstance(node, ast.Call) and isinstance(node.func, ast.Attribute):
                     self.assertIn(node.func.attr, METHODS | own)
+
+        self.each(check)
+
+    def test_is(self):
+        def check(text, tree):
+            for node in ast.walk(tree):
+                if isinstance(node, ast.Compare) and any(isinstance(op, (ast.Is, ast.IsNot)) for op in node.ops):
+                    self.assertIn(ast.unparse(node.comparators[0]), ("None", "True", "False"))
+
+        self.each(check)
+
+    def test_walked_at_once(self):
+        def check(text, tree):
+            above = parents(tree)
+            for node in ast.walk(tree):
+                method = isinstance(node, ast.Call) and getattr(node.func, "attr", None) in WALKED_METHODS
+                if called(node) in WALKED or method:
+                    over = above[node]
+                    walked = isinstance(over, (ast.For, ast.comprehension)) and over.iter is node
+                    self.assertTrue(walked or called(over) in WALKERS and over.args[0] is node, ast.unparse(over))
+
+        self.each(check)
+
+    def test_sets(self):
+        def check(text, tree):
+            above = parents(tree)
+            for node in ast.walk(tree):
+                if called(node) in ("set", "frozenset"):
+                    over = above[node]
+                    while isinstance(over, ast.BinOp):
+                        over = above[over]
+                    self.assertTrue(isinstance(over, ast.Compare) or called(over) in ("sorted", "len"), ast.unparse(over))
+
+        self.each(check)
+
+    def test_keywords(self):
+        def check(text, tree):
+            for node in ast.walk(tree):
+                if called(node) in OWN_OF_PYTHON:
+                    self.assertLessEqual({word.arg for word in node.keywords}, KEYWORDS.get(called(node), set()))
+                elif isinstance(node, ast.Call) and isinstance(node.func, ast.Attribute):
+                    self.assertEqual(node.keywords, [])
+
+        self.each(check)
+
+    def test_texts(self):
+        def check(text, tree):
+            for node in ast.walk(tree):
+                if isinstance(node, ast.Constant) and isinstance(node.value, str):
+                    self.assertNotIn("%", node.value)
 
         self.each(check)
 

@@ -18,6 +18,30 @@ ARGUMENTS = {
         "wires": ["circuit"],
         "gate_of": ["circuit"],
     },
+    "joins": {
+        "joined": ["circuit", "parts"],
+        "shared": ["circuit"],
+        "turned_circuit": ["circuit"],
+    },
+    "trees": {
+        "tree_table": ["tree", "inputs"],
+        "tree_size": ["tree"],
+        "spread": ["circuit"],
+        "tree_circuit": ["tree", "inputs"],
+    },
+    "relations": {
+        "relation": ["width", "rows"],
+        "put_rows": ["gate", "rows", "width"],
+        "keeps": ["gate", "relation"],
+        "broken": ["gate", "relation"],
+        "closed": ["relation", "gates"],
+    },
+    "formulas": {
+        "relation_of": ["formula"],
+        "both": ["one", "other"],
+        "beside": ["one", "other"],
+        "picked": ["relation", "columns"],
+    },
     "errors": {
         "NotAll": ["kind"],
         "NoName": ["name"],
