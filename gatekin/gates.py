@@ -71,12 +71,16 @@ def input_tables(inputs):
     return [input_table(inputs, j) for j in range(inputs)]
 
 
-def value_in_row(gate, tables, row):
-    return value(gate, [bit(table, row) for table in tables])
+# All rows at once: the places of an input's two values lie side by side, so each input halves the list of the given.
+def put_all(gate, numbers, full):
+    given = [full * bit(gate[1], place) for place in range(row_count(gate[0]))]
+    for number in numbers:
+        given = [(given[k] & ~number) | (given[k + 1] & number) for k in range(0, len(given), 2)]
+    return given[0]
 
 
 def put(gate, tables, inputs):
-    return number_of([value_in_row(gate, tables, row) for row in range(row_count(inputs))])
+    return put_all(gate, tables, full_table(inputs))
 
 
 # Below, a changed gate is the gate put to changed tables of its inputs: by [5] its bits are that table.

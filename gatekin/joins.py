@@ -33,6 +33,16 @@ def joined(circuit, parts):
     return (inputs, tuple(steps), out)
 
 
+# The kit has for each gate of the circuit another circuit that gives it.
+def replaced(circuit, kit):
+    inputs = circuit[0]
+    names = list(range(inputs))
+    steps = []
+    for step in circuit[1]:
+        names.append(add_circuit(steps, inputs, kit[step[0]], [names[wire] for wire in step[1]]))
+    return (inputs, tuple(steps), names[circuit[2]])
+
+
 def without_doubles(circuit):
     inputs = circuit[0]
     names = list(range(inputs))

@@ -4,7 +4,7 @@ A relation is a tuple (width, rows), rows a rising tuple; column j of a row is i
 """
 
 from gatekin.errors import NoRelation, TooMany
-from gatekin.gates import is_below, number_of, row_count, value_in_row
+from gatekin.gates import is_below, put_all, row_count
 
 MOST_WIDTH = 16
 MOST_ROWS = 256
@@ -37,7 +37,7 @@ def marked(rows):
 
 
 def put_rows(gate, rows, width):
-    return number_of([value_in_row(gate, rows, column) for column in range(width)])
+    return put_all(gate, rows, row_count(width) - 1)
 
 
 def power(base, exponent):
@@ -95,6 +95,12 @@ def given_rows(gates, old, fresh, width):
     return rows
 
 
+# The count only grows while rows are gathered, so what is refused on the way would be refused in the end.
+def refuse_too_many(count, gates):
+    if count > MOST_CLOSED_ROWS or list_count(count, gates) > MOST_LISTS:
+        raise TooMany("there would be more than 128 rows, or more than 20,000 lists of them")
+
+
 def closed(relation, gates):
     width = relation[0]
     # A constant is put to no rows, so none of the fresh ones would ever call for it.
@@ -102,10 +108,7 @@ def closed(relation, gates):
     old = []
     fresh = sorted(set(list(relation[1]) + constants))
     while len(fresh) > 0:
-        # Both counts only grow, so what is refused on the way would be refused in the end.
-        count = len(old) + len(fresh)
-        if count > MOST_CLOSED_ROWS or list_count(count, gates) > MOST_LISTS:
-            raise TooMany("closed, the relation would have too many rows")
+        refuse_too_many(len(old) + len(fresh), gates)
         given = given_rows(gates, old, fresh, width)
         old = old + fresh
         fresh = sorted(set(given) - set(old))

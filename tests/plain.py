@@ -125,6 +125,60 @@ def least_closed(relation, gates):
         rows |= given
 
 
+def tables_of_inputs(inputs):
+    return [sum(2 ** row for row in range(2 ** inputs) if row // 2 ** j % 2) for j in range(inputs)]
+
+
+def least_tables(gates, inputs):
+    """The tables that can be made, rising; None where there are too many."""
+    told = least_closed((2 ** inputs, tuple(tables_of_inputs(inputs))), gates)
+    return None if told is None else told[1]
+
+
+def least_costs(gates, inputs):
+    """For each table the least size of a tree with it: the sizes are tried in turn, each with all gates and all parts."""
+    whole = least_tables(gates, inputs)
+    if whole is None:
+        return None
+    costs = {table: 0 for table in tables_of_inputs(inputs)}
+    by_size = [sorted(costs)]
+    while len(costs) < len(whole):
+        size = len(by_size)
+        fresh = set()
+        for gate in gates:
+            for sizes in product(range(size), repeat=gate[0]):
+                if sum(sizes) == size - 1:
+                    for chosen in product(*[by_size[part] for part in sizes]):
+                        fresh.add(row_put(gate, chosen, 2 ** inputs))
+        by_size.append(sorted(fresh - set(costs)))
+        costs.update({table: size for table in by_size[size]})
+    return costs
+
+
+def trees_of(gates, inputs, size):
+    """All trees of just this size."""
+    if size == 0:
+        yield from range(inputs)
+        return
+    for gate in gates:
+        for sizes in product(range(size), repeat=gate[0]):
+            if sum(sizes) == size - 1:
+                for parts in product(*[list(trees_of(gates, inputs, part)) for part in sizes]):
+                    yield (gate, parts)
+
+
+def gates_within(tree):
+    if isinstance(tree, int):
+        return []
+    return [tree[0]] + [gate for part in tree[1] for gate in gates_within(part)]
+
+
+def is_relation(thing):
+    width, rows = thing
+    return (type(thing) is tuple and type(rows) is tuple and 0 <= width <= 16 and len(rows) <= 256
+            and list(rows) == sorted(set(rows)) and all(0 <= row < 2 ** width for row in rows))
+
+
 def formula_relation(formula):
     width, parts, columns = formula
     met = [{tuple(columns_of(row, relation[0])) for row in relation[1]} for relation, picks in parts]

@@ -42,6 +42,24 @@ ARGUMENTS = {
         "beside": ["one", "other"],
         "picked": ["relation", "columns"],
     },
+    "made": {
+        "tables_made": ["gates", "inputs"],
+        "made": ["gates", "wish"],
+    },
+    "kinds": {
+        "kind": ["name"],
+        "kinds": ["gates"],
+        "outsider": ["name"],
+    },
+    "build": {
+        "makes_all": ["gates"],
+        "build": ["gates", "wish"],
+    },
+    "prices": {
+        "paper": ["gates", "inputs"],
+        "holds": ["gates", "inputs", "rows"],
+        "least_tree": ["gates", "wish"],
+    },
     "errors": {
         "NotAll": ["kind"],
         "NoName": ["name"],
