@@ -25,6 +25,7 @@ NODES = set("""Module ImportFrom alias FunctionDef arguments arg ClassDef Lambda
 NOWHERE = set("register mro elements open input version_info with_traceback add_note".split())
 WORDS = """type typing typing_extensions enum Enum IntEnum StrEnum Flag IntFlag Generic Protocol ABC ABCMeta namedtuple
     NamedTuple TypedDict TYPE_CHECKING abstractmethod""".split()
+METHODS_THAT_READ = set("get items keys values count index copy".split())
 SPECIAL = set("__init__ __eq__ __repr__ __str__ __len__".split())
 WALKED = set("zip enumerate reversed range".split())
 WALKED_METHODS = set("items keys values".split())
@@ -238,6 +239,51 @@ class Form(unittest.TestCase):
                     self.assertLessEqual({word.arg for word in node.keywords}, KEYWORDS.get(called(node), set()))
                 elif isinstance(node, ast.Call) and isinstance(node.func, ast.Attribute):
                     self.assertEqual(node.keywords, [])
+
+        self.each(check)
+
+    def test_errors_taken(self):
+        """ValueError and its like are taken round one call of Python's own alone, in a try of its own."""
+        def check(text, tree):
+            for node in ast.walk(tree):
+                if isinstance(node, ast.ExceptHandler):
+                    self.assertIsInstance(node.type, ast.Name)
+                    self.assertNotIn(node.type.id, ("Exception", "TypeError"))
+                elif isinstance(node, ast.Try):
+                    self.assertEqual((len(node.body), node.finalbody), (1, []))
+                    calls = [ast.unparse(call.func) for call in ast.walk(node.body[0]) if isinstance(call, ast.Call)]
+                    if any(handler.type.id in ("ValueError", "LookupError") for handler in node.handlers):
+                        self.assertLessEqual(set(calls), {"int", "str", "index", "remove"})
+                elif isinstance(node, ast.Raise):
+                    self.assertIsInstance(node.exc, ast.Call)
+
+        self.each(check)
+
+    def test_methods_and_values_of_objects(self):
+        trees = [ast.parse(file.read_text()) for file in FILES]
+        classes = [node for tree in trees for node in ast.walk(tree) if isinstance(node, ast.ClassDef)]
+        methods = [part.name for node in classes for part in node.body if isinstance(part, ast.FunctionDef)]
+        values = [node.attr for tree in trees for node in ast.walk(tree)
+                  if isinstance(node, ast.Attribute) and isinstance(node.ctx, ast.Store)]
+        self.assertEqual(set(methods) & set(values), set())
+        own = {name for kind in (str, int, list, dict, set, bytes) for name in dir(kind)}
+        self.assertEqual((set(methods) - SPECIAL) & own, set())
+        self.assertEqual(set(values) & own, set())
+
+    def test_lists_and_dicts_of_the_top(self):
+        """They hold no lists or dicts, and no call changes them."""
+        def check(text, tree):
+            kept = {node.targets[0].id for node in tree.body
+                    if isinstance(node, ast.Assign) and isinstance(node.value, (ast.List, ast.Dict))}
+            for node in tree.body:
+                if isinstance(node, ast.Assign):
+                    inner = [part for part in ast.walk(node.value) if part is not node.value]
+                    self.assertFalse([part for part in inner if isinstance(part, (ast.List, ast.Dict, ast.Call))])
+            for node in ast.walk(tree):
+                if isinstance(node, ast.Subscript) and isinstance(node.ctx, ast.Store):
+                    self.assertNotIn(getattr(node.value, "id", None), kept)
+                elif isinstance(node, ast.Attribute):
+                    self.assertTrue(getattr(node.value, "id", None) not in kept or node.attr in METHODS_THAT_READ)
 
         self.each(check)
 

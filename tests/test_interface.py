@@ -1,6 +1,7 @@
 import importlib
 import inspect
 import unittest
+from operator import attrgetter
 
 ARGUMENTS = {
     "gates": {
@@ -60,6 +61,28 @@ ARGUMENTS = {
         "holds": ["gates", "inputs", "rows"],
         "least_tree": ["gates", "wish"],
     },
+    "keepers": {
+        "keepers": ["relations", "inputs"],
+        "made_of": ["relations", "wish"],
+    },
+    "sets": {
+        "least_part": ["gates"],
+        "same": ["one", "other"],
+    },
+    "texts": {
+        "gate_text": ["gate"],
+        "relation_text": ["relation"],
+        "circuit_text": ["circuit"],
+        "set_text": ["gates"],
+        "read_gate": ["text"],
+        "read_relation": ["text"],
+        "read_circuit": ["text"],
+        "read_set": ["text"],
+    },
+    "desk": {
+        "Desk": [],
+        "Desk.say": ["self", "row"],
+    },
     "errors": {
         "NotAll": ["kind"],
         "NoName": ["name"],
@@ -73,7 +96,7 @@ class Interface(unittest.TestCase):
             module = importlib.import_module("gatekin." + file)
             for name, arguments in names.items():
                 with self.subTest(file=file, name=name):
-                    told = inspect.signature(getattr(module, name)).parameters
+                    told = inspect.signature(attrgetter(name)(module)).parameters
                     self.assertEqual(list(told), arguments)
                     for parameter in told.values():
                         self.assertIs(parameter.default, inspect.Parameter.empty)

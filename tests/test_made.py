@@ -1,16 +1,12 @@
 import random
 import unittest
-from functools import lru_cache
 from itertools import combinations_with_replacement
 from unittest import mock
 
-from gatekin.circuits import is_circuit
 from gatekin.errors import TooMany
 from gatekin.made import made, tables_made
-from tests.plain import (
-    circuit_gate, drawn_gate, first_broken, is_relation, kinds_within, least_tables, limit, row_put, some_gates,
-    tables_of_inputs,
-)
+from tests.checks import Checks, tables_of
+from tests.plain import drawn_gate, kinds_within, least_tables, limit, some_gates, tables_of_inputs
 
 LOW, HIGH, NOT, SAME = (0, 0), (0, 1), (1, 1), (1, 2)
 AND, OR, XOR, NAND = (2, 8), (2, 14), (2, 6), (2, 7)
@@ -24,16 +20,6 @@ FULL_SETS = [
     [MOST_OF_THREE, NOT, LOW], [(2, 9), XOR, AND], [NONE_OF_FOUR], [NOT_ALL_FOUR], [PARITY, ALL_FOUR, HIGH],
     [(4, 43690), (4, 27030 ^ 1)], [ALL_FOUR, PARITY, (4, 38505), SAME, HIGH, LOW], [NOT_ALL_FOUR] * 6,
 ]
-
-
-@lru_cache(None)
-def is_kept(gate, relation):
-    return first_broken(gate, relation) is None
-
-
-@lru_cache(None)
-def tables_of(gates, inputs):
-    return least_tables(gates, inputs)
 
 
 class TablesMade(unittest.TestCase):
@@ -138,25 +124,7 @@ class TablesMade(unittest.TestCase):
         self.assertEqual(tables_made([AND, OR, HIGH], 2), told)
 
 
-class Made(unittest.TestCase):
-    def assert_circuit(self, circuit, gates, wish):
-        self.assertTrue(is_circuit(circuit))
-        self.assertLessEqual(kinds_within(circuit), {tuple, int})
-        self.assertEqual(circuit_gate(circuit), wish)
-        self.assertLessEqual({step[0] for step in circuit[1]}, set(gates))
-
-    def assert_breach(self, relation, rows, gates, wish):
-        width = relation[0]
-        self.assertTrue(is_relation(relation))
-        self.assertLessEqual(width, 2 ** wish[0])
-        self.assertLessEqual(len(relation[1]), len(tables_of(tuple(gates), wish[0])))
-        for gate in gates:
-            self.assertTrue(is_kept(gate, relation))
-        self.assertIs(type(rows), list)
-        self.assertEqual(len(rows), wish[0])
-        self.assertLessEqual(set(rows), set(relation[1]))
-        self.assertNotIn(row_put(wish, rows, width), relation[1])
-
+class Made(Checks):
     def assert_made(self, gates, wish, can):
         kept = list(gates)
         told = made(gates, wish)
